@@ -1,0 +1,38 @@
+import doctest
+import unittest
+from pathlib import Path
+
+TABLES = """
+>>> from beanjars.tables import Table
+>>> table = Table([[0, 1], [1, 0]])
+>>> (table[0, 1], table.fold([1, 1, 1]), 2 in table, table.renamed([1, 0]).rows())
+(1, 1, False, [[1, 0], [0, 1]])
+"""
+
+JARS = """
+>>> from beanjars.jars import Jar, last_of
+>>> from beanjars.tables import Table
+>>> jar = Jar([1, 1]) + Jar([0, 2])
+>>> (jar.total, jar.draws(), last_of(Table([[0, 1], [1, 0]]), jar, [(1, 1), (0, 0), (0, 1)]))
+(4, [(0, 1), (1, 1)], 1)
+"""
+
+
+class ExamplesTest(unittest.TestCase):
+    def check(self, name, text):
+        test = doctest.DocTestParser().get_doctest(text, {}, name, name, 0)
+        self.assertTrue(test.examples)
+        results = doctest.DocTestRunner().run(test)
+        self.assertEqual(results.failed, 0)
+
+    def test_examples_of_the_document(self):
+        self.check("tables", TABLES)
+        self.check("jars", JARS)
+
+    def test_examples_of_the_readme(self):
+        readme = Path(__file__).resolve().parent.parent / "README.md"
+        self.check("README.md", readme.read_text(encoding="utf-8").replace("```", ""))
+
+
+if __name__ == "__main__":
+    unittest.main()
