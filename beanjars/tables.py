@@ -11,16 +11,24 @@ def is_square(rows):
     return all([is_sequence(row) and len(row) == len(rows) for row in rows])
 
 
+def first_wrong_place(rows, is_entry):
+    """The first place, row by row, without an entry or with another one than its mirrored place before it, or None."""
+    for a, row in enumerate(rows):
+        for b, entry in enumerate(row):
+            if not is_entry(entry, len(rows)) or (b < a and entry != rows[b][a]):
+                return (a, b)
+    return None
+
+
 class Table:
     """The colour of the bean that replaces two beans, for each two colours."""
 
     def __init__(self, rows):
         if not is_square(rows):
             raise InvalidTable(None)
-        for a, row in enumerate(rows):
-            for b, colour in enumerate(row):
-                if not is_colour(colour, len(rows)) or (b < a and colour != rows[b][a]):
-                    raise InvalidTable((a, b))
+        place = first_wrong_place(rows, is_colour)
+        if place is not None:
+            raise InvalidTable(place)
         self.grid = tuple([tuple(row) for row in rows])
 
     @property

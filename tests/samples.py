@@ -3,6 +3,21 @@
 from itertools import product
 
 
+# Rows of tables whose groups are larger than the tests of three colours alone show.
+LINKED = (
+    [[0, 0, 0, 0], [0, 0, 3, 1], [0, 3, 2, 2], [0, 1, 2, 3]],
+    [[0, 0, 0, 0], [0, 1, 2, 3], [0, 2, 2, 1], [0, 3, 1, 0]],
+    [[0, 0, 0, 0], [0, 2, 1, 0], [0, 1, 3, 0], [0, 0, 0, 0]],
+    [[0, 0, 0, 5, 0, 0], [0, 1, 2, 3, 4, 5], [0, 2, 4, 5, 1, 5], [5, 3, 5, 5, 5, 5], [0, 4, 1, 5, 5, 5],
+     [0, 5, 5, 5, 5, 5]],
+    [[5, 0, 0, 0, 0, 0, 0], [0, 1, 2, 3, 4, 5, 6], [0, 2, 4, 6, 1, 6, 6], [0, 3, 6, 6, 6, 6, 6],
+     [0, 4, 1, 6, 6, 6, 6], [0, 5, 6, 6, 6, 6, 6], [0, 6, 6, 6, 6, 6, 6]],
+)
+# Rows of a table with a reason that has steps inside steps inside steps.
+DEEP = [[0, 1, 2, 3, 4, 5, 6, 7], [1, 2, 0, 4, 5, 6, 7, 7], [2, 0, 4, 5, 6, 7, 7, 7], [3, 4, 5, 6, 7, 7, 7, 7],
+        [4, 5, 6, 7, 7, 7, 7, 7], [5, 6, 7, 7, 7, 7, 7, 7], [6, 7, 7, 7, 7, 7, 7, 7], [7, 7, 7, 7, 7, 7, 7, 7]]
+
+
 class Touchy:
     """An object that cannot be compared, measured, iterated or hashed."""
 
@@ -80,6 +95,93 @@ def all_rows(size):
     for entries in product(range(size), repeat=len(places)):
         at = dict(zip(places, entries))
         yield rows_of(size, lambda a, b: at[min(a, b), max(a, b)])
+
+
+def large_rows():
+    """Rows of up to eight colours, some of tables that pass and some of others."""
+    makers = (lambda k: rows_of(k, lambda a, b: (a + b) % k), lambda k: rows_of(k, lambda a, b: a * b % k),
+              lambda k: rows_of(k, max), lambda k: rows_of(k, min), lambda k: rows_of(k, lambda a, b: 0),
+              lambda k: rows_of(k, lambda a, b: abs(a - b)), lambda k: rows_of(k, lambda a, b: (2 * a + 2 * b) % k),
+              lambda k: rows_of(k, lambda a, b: a if a == b else k - 1),
+              lambda k: rows_of(k, lambda a, b: k - 2 if a == b == k - 1 and k > 1 else max(a, b)))
+    return [make(size) for size in range(1, 9) for make in makers]
+
+
+def mixed_rows(size, seed):
+    """The rows of a table without any order in it, always the same one for a seed."""
+    state = 7919 * size + 104729 * seed + 1
+    rows = [[0] * size for _ in range(size)]
+    for a in range(size):
+        for b in range(a, size):
+            state = (state * 6364136223846793005 + 1442695040888963407) % 2 ** 64
+            rows[a][b] = rows[b][a] = (state >> 33) % size
+    return rows
+
+
+def grouped_rows(size, seed, many):
+    """The rows of a table like mixed_rows, whose colours form many parts that the table respects."""
+    outer, inner = rows_of(many, lambda a, b: (a + b) % many), mixed_rows(size, seed)
+    return rows_of(size, lambda a, b: nearest(inner[a][b], outer[a % many][b % many], size, many))
+
+
+def nearest(colour, rest, size, many):
+    """A colour near to a colour that leaves this rest when divided by many."""
+    choices = [c for c in range(size) if c % many == rest]
+    return choices[colour % len(choices)]
+
+
+def some_rows():
+    """Rows of tables with one to eight colours, of many kinds."""
+    rows = list(all_rows(1)) + list(all_rows(2)) + list(all_rows(3)) + large_rows() + list(LINKED) + [DEEP]
+    rows += [mixed_rows(size, seed) for size in range(4, 9) for seed in range(12)]
+    return rows + [grouped_rows(size, seed, many) for size in range(4, 9) for seed in range(6) for many in (2, 3)]
+
+
+def passing_rows():
+    """Rows of tables with one to eight colours that pass the check."""
+    return [rows for rows in some_rows() if is_passing(rows)]
+
+
+def is_passing(rows):
+    """Whether a table passes the check, by the words of the document."""
+    return all(rows[rows[a][b]][c] == rows[a][rows[b][c]] for a, b, c in product(range(len(rows)), repeat=3))
+
+
+def joined_groups(rows):
+    """The groups of a table, by joining colours until nothing changes."""
+    colours = range(len(rows))
+    parts = [{colour} for colour in colours]
+    while True:
+        wanted = [(rows[rows[a][b]][c], rows[a][rows[b][c]]) for a, b, c in product(colours, repeat=3)]
+        wanted += [(rows[a][c], rows[b][c]) for part in parts for a in part for b in part for c in colours]
+        joined = None
+        for x, y in wanted:
+            one = next(part for part in parts if x in part)
+            if y not in one:
+                other = next(part for part in parts if y in part)
+                joined = [part for part in parts if part not in (one, other)] + [one | other]
+                break
+        if joined is None:
+            return sorted(sorted(part) for part in parts)
+        parts = joined
+
+
+def all_divisions(size):
+    """All divisions of so many colours, as lists of lists."""
+    divisions = [[]]
+    for colour in range(size):
+        divisions = [parts[:at] + [parts[at] + [colour]] + parts[at + 1:] for parts in divisions
+                     for at in range(len(parts))] + [parts + [[colour]] for parts in divisions]
+    return divisions
+
+
+def lists_within(value):
+    """All lists within a value, the value itself included, each as often as it occurs."""
+    found = [value] if isinstance(value, list) else []
+    if isinstance(value, (list, tuple)):
+        for item in value:
+            found += lists_within(item)
+    return found
 
 
 def all_counts(size, most):

@@ -4,7 +4,7 @@ from itertools import permutations, product
 from beanjars.checks import dispute, first_dispute, is_dispute, passes
 from beanjars.jars import Jar, last_of
 from beanjars.tables import Table
-from samples import all_counts, all_rows, no_sequences, rows_of, searched_last_beans
+from samples import all_counts, all_rows, large_rows, no_sequences, rows_of, searched_last_beans
 
 NOR = Table([[1, 0], [0, 0]])
 
@@ -13,16 +13,6 @@ def plain_disputes(rows):
     """All disputed triples, least first, by the words of the document."""
     colours = range(len(rows))
     return [(a, b, c) for a, b, c in product(colours, repeat=3) if rows[rows[a][b]][c] != rows[a][rows[b][c]]]
-
-
-def large_rows():
-    """Rows of up to eight colours, some of tables that pass and some of others."""
-    makers = (lambda k: rows_of(k, lambda a, b: (a + b) % k), lambda k: rows_of(k, lambda a, b: a * b % k),
-              lambda k: rows_of(k, max), lambda k: rows_of(k, min), lambda k: rows_of(k, lambda a, b: 0),
-              lambda k: rows_of(k, lambda a, b: abs(a - b)), lambda k: rows_of(k, lambda a, b: (2 * a + 2 * b) % k),
-              lambda k: rows_of(k, lambda a, b: a if a == b else k - 1),
-              lambda k: rows_of(k, lambda a, b: k - 2 if a == b == k - 1 and k > 1 else max(a, b)))
-    return [make(size) for size in range(1, 9) for make in makers]
 
 
 class FirstDisputeTest(unittest.TestCase):

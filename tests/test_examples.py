@@ -17,6 +17,25 @@ JARS = """
 (4, [(0, 1), (1, 1)], 1)
 """
 
+GROUPS = """
+>>> from beanjars.groups import groups, reason
+>>> from beanjars.tables import Table
+>>> table = Table([[1, 0, 0], [0, 0, 0], [0, 0, 2]])
+>>> groups(table)
+[[0, 1], [2]]
+"""
+
+POSSIBLE = """
+>>> from beanjars.jars import Jar
+>>> from beanjars.possible import class_sets, last_beans, way_to
+>>> from beanjars.tables import Table
+>>> table = Table([[1, 0], [0, 0]])
+>>> (last_beans(table, Jar([2, 1])), way_to(table, Jar([2, 1]), 1))
+([0, 1], [(0, 1), (0, 0)])
+>>> class_sets(Table([[0, 1], [1, 1]]), [(1, 1), (1, 1)])
+{(0, 1): [1], (1, 0): [0], (1, 1): [1]}
+"""
+
 
 class ExamplesTest(unittest.TestCase):
     def check(self, name, text):
@@ -28,6 +47,8 @@ class ExamplesTest(unittest.TestCase):
     def test_examples_of_the_document(self):
         self.check("tables", TABLES)
         self.check("jars", JARS)
+        self.check("groups", GROUPS)
+        self.check("possible", POSSIBLE)
 
     def test_examples_of_the_readme(self):
         readme = Path(__file__).resolve().parent.parent / "README.md"

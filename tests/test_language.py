@@ -1,6 +1,7 @@
 """Some rules of LANGUAGE.md that are easy to break without noticing."""
 
 import ast
+import builtins
 import unittest
 from pathlib import Path
 
@@ -13,6 +14,49 @@ BUILTINS = {
     "NotImplemented", "ValueError", "TypeError", "KeyError", "LookupError", "OverflowError", "RuntimeError",
     "property", "staticmethod", "classmethod", "super",
 }
+METHODS = set("""
+    append clear copy count endswith extend find get index insert isalnum isalpha isdigit islower isspace isupper items
+    join keys ljust lower lstrip partition pop remove replace reverse rfind rjust rpartition rsplit rstrip setdefault
+    split splitlines startswith strip update upper values zfill bit_length
+""".split())
+AT_ONCE = {"zip", "enumerate", "reversed", "range", "items", "keys", "values"}
+TAKERS = {"list", "tuple", "dict", "sorted", "sum", "any", "all", "enumerate", "zip", "min", "max", "len", "reversed"}
+NOT_ALLOWED = (
+    ast.GeneratorExp, ast.SetComp, ast.Set, ast.Yield, ast.YieldFrom, ast.Await, ast.Import, ast.Try, ast.With,
+    ast.Match, ast.Nonlocal, ast.NamedExpr, ast.Lambda, ast.JoinedStr, ast.Starred, ast.Delete,
+)
+
+
+def trees():
+    """The name and the tree of each file."""
+    return [(path.name, ast.parse(path.read_text(encoding="utf-8"))) for path in FILES]
+
+
+def functions_in(tree):
+    return [node for node in ast.walk(tree) if isinstance(node, ast.FunctionDef)]
+
+
+def called_name(node):
+    """The name of what a call calls, also of a method."""
+    return node.func.id if isinstance(node.func, ast.Name) else getattr(node.func, "attr", None)
+
+
+def own_names():
+    """The names of all methods and attributes that the package defines."""
+    names = set()
+    for _, tree in trees():
+        for node in ast.walk(tree):
+            if isinstance(node, ast.ClassDef):
+                names |= {part.name for part in node.body if isinstance(part, ast.FunctionDef)}
+            if isinstance(node, ast.Attribute) and isinstance(node.ctx, ast.Store):
+                names.add(node.attr)
+    return names
+
+
+def bound_in(function):
+    """The names of the parameters and local variables of a function."""
+    names = {node.id for node in ast.walk(function) if isinstance(node, ast.Name) and isinstance(node.ctx, ast.Store)}
+    return names | {node.arg for node in ast.walk(function) if isinstance(node, ast.arg)}
 
 
 class LanguageTest(unittest.TestCase):
@@ -66,6 +110,86 @@ class LanguageTest(unittest.TestCase):
             self.assertEqual(read - bound - BUILTINS, set(), path.name)
             self.assertEqual(bound & BUILTINS, set(), path.name)
             self.assertEqual([name for name in bound if name.startswith("_") and not name.endswith("__")], [])
+
+    def test_no_parts_of_the_language_that_need_care(self):
+        # LANGUAGE.md allows some of these in some places; so far the package does without all of them.
+        for name, tree in trees():
+            for node in ast.walk(tree):
+                self.assertNotIsInstance(node, NOT_ALLOWED, name)
+
+    def test_is_stands_beside_none_only(self):
+        for name, tree in trees():
+            for node in ast.walk(tree):
+                if isinstance(node, ast.Compare):
+                    for sign, right in zip(node.ops, node.comparators):
+                        if isinstance(sign, (ast.Is, ast.IsNot)):
+                            self.assertTrue(isinstance(right, ast.Constant) and right.value in (None, True, False), name)
+
+    def test_methods_and_attributes_are_known(self):
+        known = own_names() | METHODS
+        for name, tree in trees():
+            for node in ast.walk(tree):
+                if isinstance(node, ast.Attribute):
+                    self.assertIn(node.attr, known, name)
+
+    def test_what_is_iterated_at_once_is_not_kept(self):
+        for name, tree in trees():
+            fine = set()
+            for node in ast.walk(tree):
+                if isinstance(node, (ast.For, ast.comprehension)):
+                    fine.add(node.iter)
+                if isinstance(node, ast.Call) and isinstance(node.func, ast.Name) and node.func.id in TAKERS:
+                    fine.update(node.args[:1])
+            for node in ast.walk(tree):
+                if isinstance(node, ast.Call) and called_name(node) in AT_ONCE:
+                    self.assertIn(node, fine, f"{name}:{node.lineno}")
+
+    def test_local_names_hide_nothing(self):
+        for name, tree in trees():
+            taken = {alias.name for node in ast.walk(tree) if isinstance(node, ast.ImportFrom) for alias in node.names}
+            taken |= {node.name for node in tree.body if isinstance(node, (ast.ClassDef, ast.FunctionDef))}
+            for function in functions_in(tree):
+                self.assertEqual(bound_in(function) & (taken | set(dir(builtins))), set(), f"{name}: {function.name}")
+
+    def test_module_level_names_are_bound_once(self):
+        for name, tree in trees():
+            names = [alias.name for node in tree.body if isinstance(node, ast.ImportFrom) for alias in node.names]
+            names += [node.name for node in tree.body if isinstance(node, (ast.ClassDef, ast.FunctionDef))]
+            names += [node.targets[0].id for node in tree.body if isinstance(node, ast.Assign)]
+            self.assertEqual(len(names), len(set(names)), name)
+            self.assertEqual(set(names) & set(dir(builtins)), set(), name)
+
+    def test_imports_name_the_defining_file_and_form_no_circle(self):
+        defined, needs = {}, {}
+        for name, tree in trees():
+            here = "beanjars." + name[:-3]
+            defined[here] = {node.name for node in tree.body if isinstance(node, (ast.ClassDef, ast.FunctionDef))}
+            defined[here] |= {node.targets[0].id for node in tree.body if isinstance(node, ast.Assign)}
+            needs[here] = {node.module for node in tree.body if isinstance(node, ast.ImportFrom)}
+        for name, tree in trees():
+            for node in tree.body:
+                if isinstance(node, ast.ImportFrom):
+                    self.assertLessEqual({alias.name for alias in node.names}, defined[node.module], name)
+        while needs:
+            free = [name for name, needed in needs.items() if not needed & set(needs)]
+            self.assertTrue(free, needs)
+            for name in free:
+                del needs[name]
+
+    def test_all_imports_are_used(self):
+        for name, tree in trees():
+            read = {node.id for node in ast.walk(tree) if isinstance(node, ast.Name)}
+            for node in tree.body:
+                if isinstance(node, ast.ImportFrom):
+                    self.assertEqual({alias.name for alias in node.names} - read, set(), name)
+
+    def test_everything_is_described(self):
+        for name, tree in trees():
+            self.assertTrue(ast.get_docstring(tree), name)
+            for node in ast.walk(tree):
+                plain = isinstance(node, ast.FunctionDef) and not node.name.startswith("__")
+                if plain or isinstance(node, ast.ClassDef):
+                    self.assertTrue(ast.get_docstring(node), f"{name}: {node.name}")
 
     def test_no_name_is_a_method_and_an_attribute(self):
         methods, attributes = set(), set()
