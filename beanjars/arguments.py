@@ -1,6 +1,6 @@
 """Questions about arguments, which can be any values, and the errors for wrong ones."""
 
-from beanjars.errors import InvalidColour, InvalidRenaming
+from beanjars.errors import InvalidColour, InvalidNumber, InvalidRenaming
 
 MOST_COLOURS = 8
 
@@ -33,12 +33,24 @@ def need_colours(values, size):
             raise InvalidColour(value)
 
 
+def need_number(value, least, greatest):
+    """Raise InvalidNumber if a value is no integer from the least to the greatest one, or to any if that is None."""
+    if not is_integer(value) or value < least or (greatest is not None and value > greatest):
+        raise InvalidNumber(value)
+
+
+def are_different_colours(values, size):
+    """Whether a value is a list or tuple of different ones of so many colours."""
+    # Only colours are compared here: other values may not be comparable.
+    return is_sequence(values) and all([is_colour(value, size) for value in values]) and len(set(values)) == len(values)
+
+
+def are_all_colours(values, size):
+    """Whether a value is a list or tuple of all of so many colours, each once."""
+    return are_different_colours(values, size) and len(values) == size
+
+
 def need_renaming(names, size):
     """Raise InvalidRenaming if the names are no renaming of so many colours."""
-    if not is_sequence(names):
-        raise InvalidRenaming()
-    # Only colours can be sorted here: other values may not be comparable.
-    if not all([is_colour(name, size) for name in names]):
-        raise InvalidRenaming()
-    if sorted(names) != list(range(size)):
+    if not are_all_colours(names, size):
         raise InvalidRenaming()

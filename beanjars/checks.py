@@ -3,20 +3,19 @@
 from beanjars.jars import Jar, is_way, last_of
 
 
-def is_disputed(table, a, b, c):
-    """Whether three colours are disputed."""
-    return table[table[a, b], c] != table[a, table[b, c]]
+def first_dispute_in(rows):
+    """The least disputed tuple of three colours of the table with these rows, or None."""
+    for a, row in enumerate(rows):
+        for b, bean in enumerate(row):
+            for c, other in enumerate(rows[b]):
+                if rows[bean][c] != row[other]:
+                    return (a, b, c)
+    return None
 
 
 def first_dispute(table):
     """The least disputed tuple of three colours, or None."""
-    colours = list(range(table.size))
-    for a in colours:
-        for b in colours:
-            for c in colours:
-                if is_disputed(table, a, b, c):
-                    return (a, b, c)
-    return None
+    return first_dispute_in(table.rows())
 
 
 def passes(table):

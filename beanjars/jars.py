@@ -1,6 +1,8 @@
 """Jars of beans, the draws from them, and the ways to a last bean."""
 
-from beanjars.arguments import MOST_COLOURS, is_colour, is_integer, is_pair, is_sequence, need_colours, need_renaming
+from beanjars.arguments import MOST_COLOURS, is_colour, is_integer, is_pair, is_sequence
+from beanjars.arguments import need_colours, need_number, need_renaming
+from beanjars.drawing import counts_after, possible_draws
 from beanjars.errors import EmptyJar, InvalidColour, InvalidDraw, InvalidJar, InvalidNumber, InvalidWay
 from beanjars.errors import NotEnough, WrongSize
 
@@ -29,8 +31,7 @@ class Jar:
     @classmethod
     def of_beans(cls, size, beans):
         """The jar with so many colours and the beans of a list or tuple."""
-        if not is_integer(size) or not 1 <= size <= MOST_COLOURS:
-            raise InvalidNumber(size)
+        need_number(size, 1, MOST_COLOURS)
         if not is_sequence(beans):
             raise InvalidColour(beans)
         need_colours(beans, size)
@@ -96,8 +97,7 @@ class Jar:
 
     def draws(self):
         """The possible draws, sorted."""
-        size = len(self.amounts)
-        return [(a, b) for a in range(size) for b in range(a, size) if self.can_draw((a, b))]
+        return possible_draws(self.amounts)
 
     def can_draw(self, value):
         """Whether a value, which can be any, is a possible draw."""
@@ -120,12 +120,7 @@ def after(table, jar, draw):
     need_same_size(table, jar)
     if not jar.can_draw(draw):
         raise InvalidDraw(draw)
-    a, b = draw
-    counts = jar.counts()
-    counts[a] -= 1
-    counts[b] -= 1
-    counts[table[a, b]] += 1
-    return Jar(counts)
+    return Jar(counts_after(table.rows(), jar.counts(), draw))
 
 
 def need_beans(table, jar):

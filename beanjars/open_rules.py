@@ -1,6 +1,7 @@
 """Open rules: two beans may be replaced by no bean, and some may not be drawn, so that drawing can get stuck."""
 
 from beanjars.arguments import is_colour
+from beanjars.drawing import counts_after, possible_draws
 from beanjars.errors import InvalidDraw, InvalidRules, LimitExceeded
 from beanjars.jars import Jar, need_same_size
 from beanjars.tables import first_wrong_place, is_square
@@ -16,24 +17,7 @@ def is_entry(value, size):
 
 def allowed_draws(grid, counts):
     """The allowed draws of a jar with these counts, sorted."""
-    found = []
-    for a, row in enumerate(grid):
-        if counts[a] > 1 and row[a] != STOP:
-            found.append((a, a))
-        if counts[a] > 0:
-            found.extend([(a, b) for b in range(a + 1, len(grid)) if counts[b] > 0 and row[b] != STOP])
-    return found
-
-
-def counts_after(grid, counts, draw):
-    """The counts after an allowed draw, as a tuple."""
-    a, b = draw
-    left = list(counts)
-    left[a] -= 1
-    left[b] -= 1
-    if grid[a][b] is not None:
-        left[grid[a][b]] += 1
-    return tuple(left)
+    return [(a, b) for a, b in possible_draws(counts) if grid[a][b] != STOP]
 
 
 class OpenRules:

@@ -1,8 +1,8 @@
 """The last bean of tables that pass the check, and the group of the last bean of any table."""
 
-from beanjars.arguments import is_integer, need_colours
+from beanjars.arguments import need_colours, need_number
 from beanjars.checks import first_dispute
-from beanjars.errors import Disputed, InvalidNumber
+from beanjars.errors import Disputed
 from beanjars.groups import groups, quotient
 from beanjars.jars import need_beans
 
@@ -87,8 +87,7 @@ def with_colour(rows, colour, numbers, total):
 def count_jars(table, total):
     """For each colour the number of jars with so many beans whose last bean has the colour."""
     need_passing(table)
-    if not is_integer(total) or not 1 <= total <= MOST_TOTAL:
-        raise InvalidNumber(total)
+    need_number(total, 1, MOST_TOTAL)
     rows = table.rows()
     numbers = {(0, None): 1}
     for colour in range(table.size):

@@ -196,6 +196,15 @@ def searched_last_beans(rows, counts, known):
     if sum(counts) == 1:
         return {counts.index(1)}
     found = set()
+    for draw, rest in draws_and_jars(rows, counts):
+        found |= searched_last_beans(rows, rest, known)
+    known[counts] = found
+    return found
+
+
+def draws_and_jars(rows, counts):
+    """Each possible draw of a jar, sorted, with the counts after it, by the words of the document."""
+    found = []
     for a in range(len(rows)):
         for b in range(a, len(rows)):
             rest = list(counts)
@@ -203,6 +212,23 @@ def searched_last_beans(rows, counts, known):
             rest[b] -= 1
             if min(rest) >= 0:
                 rest[rows[a][b]] += 1
-                found |= searched_last_beans(rows, tuple(rest), known)
-    known[counts] = found
+                found.append(((a, b), tuple(rest)))
     return found
+
+
+def counts_with_total(size, total):
+    """The counts of all jars with so many beans."""
+    return [counts for counts in all_counts(size, total) if sum(counts) == total]
+
+
+def no_numbers(least, greatest=None):
+    """Values that are not integers from the least to the greatest one, or to any if that is None."""
+    return no_integers() + [least - 1, least - 10, -10 ** 30] + (
+        [] if greatest is None else [greatest + 1, greatest + 10, 10 ** 30])
+
+
+def no_different_colours(size):
+    """Values that are not lists or tuples of different colours."""
+    right = list(range(size))
+    wrong = no_sequences() + [[0, 0], (0, 0), right + [0], right + [size], tuple(right + [right[-1]]), [right], [-1]]
+    return wrong + [[value] for value in no_colours(size)] + [right[:-1] + [value] for value in no_colours(size)]

@@ -36,6 +36,41 @@ POSSIBLE = """
 {(0, 1): [1], (1, 0): [0], (1, 1): [1]}
 """
 
+SINGLE = """
+>>> from beanjars.single import beans_of_many, period, power_sets
+>>> from beanjars.tables import Table
+>>> table = Table([[1, 0], [0, 0]])
+>>> (power_sets(table, 0, 4), period(table, 0), beans_of_many(table, 0, 10 ** 30))
+([[0], [1], [0], [0, 1]], (4, 1), [0, 1])
+"""
+
+CHANCES = """
+>>> from beanjars.chances import after_draws, chances
+>>> from beanjars.jars import Jar
+>>> from beanjars.tables import Table
+>>> table = Table([[1, 0], [0, 0]])
+>>> (chances(table, Jar([2, 1])), after_draws(table, Jar([2, 1]), 1))
+([(1, 3), (2, 3)], [((0, 2), (1, 3)), ((2, 0), (2, 3))])
+"""
+
+GAMES = """
+>>> from beanjars.games import good_draws, outcome, plan, winner
+>>> from beanjars.jars import Jar
+>>> from beanjars.tables import Table
+>>> table, jar = Table([[1, 0], [0, 0]]), Jar([2, 1])
+>>> (winner(table, jar, [1]), good_draws(table, jar, [1]), winner(table, jar, [1], turn=2), outcome(table, jar, [0, 1]))
+(1, [(0, 1)], 2, 0)
+"""
+
+COMPLETIONS = """
+>>> from beanjars.completions import completions, repairs
+>>> from beanjars.tables import Table
+>>> [table.rows() for table in completions([[0, None], [None, 1]])]
+[[[0, 0], [0, 1]], [[0, 1], [1, 1]]]
+>>> [table.rows() for table in repairs(Table([[1, 0], [0, 0]]), 3)[1]]
+[[[0, 0], [0, 0]], [[1, 0], [0, 1]]]
+"""
+
 
 class ExamplesTest(unittest.TestCase):
     def check(self, name, text):
@@ -49,6 +84,10 @@ class ExamplesTest(unittest.TestCase):
         self.check("jars", JARS)
         self.check("groups", GROUPS)
         self.check("possible", POSSIBLE)
+        self.check("single", SINGLE)
+        self.check("chances", CHANCES)
+        self.check("games", GAMES)
+        self.check("completions", COMPLETIONS)
 
     def test_examples_of_the_readme(self):
         readme = Path(__file__).resolve().parent.parent / "README.md"
