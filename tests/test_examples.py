@@ -71,6 +71,13 @@ COMPLETIONS = """
 [[[0, 0], [0, 0]], [[1, 0], [0, 1]]]
 """
 
+OBSERVATIONS = """
+>>> from beanjars.observations import fitting, next_jar
+>>> rows = [[0, None], [None, 1]]
+>>> ([table.rows() for table in fitting(rows, [((1, 1), 1)])], next_jar(rows, [], 3)[0].counts())
+([[[0, 1], [1, 1]]], [1, 1])
+"""
+
 
 class ExamplesTest(unittest.TestCase):
     def check(self, name, text):
@@ -88,6 +95,7 @@ class ExamplesTest(unittest.TestCase):
         self.check("chances", CHANCES)
         self.check("games", GAMES)
         self.check("completions", COMPLETIONS)
+        self.check("observations", OBSERVATIONS)
 
     def test_examples_of_the_readme(self):
         readme = Path(__file__).resolve().parent.parent / "README.md"

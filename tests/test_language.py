@@ -7,7 +7,16 @@ from pathlib import Path
 
 PACKAGE = Path(__file__).resolve().parent.parent / "beanjars"
 FILES = sorted(PACKAGE.glob("*.py"))
-BARRED = {"type", "typing", "enum", "Enum", "Flag", "Generic", "Protocol", "namedtuple", "abstractmethod"}
+BARRED = set("""
+    type typing typing_extensions enum Enum IntEnum StrEnum Flag IntFlag Generic Protocol ABC ABCMeta namedtuple
+    NamedTuple TypedDict TYPE_CHECKING abstractmethod
+""".split())
+BARRED_PARTS = ("dataclass", "overload", "contextmanager")
+NO_NAMES = set("""
+    register mro elements open input law version_info with_traceback add_note attrgetter breakpoint builtins compile
+    copyright credits delattr dir eval exec exit gc getattr globals hasattr help id importlib license locals
+    methodcaller os quit setattr super type vars sys format format_map
+""".split())
 BUILTINS = {
     "len", "range", "enumerate", "zip", "min", "max", "sum", "abs", "sorted", "reversed", "int", "str", "bool",
     "list", "tuple", "dict", "set", "isinstance", "ord", "repr", "any", "all", "divmod", "iter", "next",
@@ -22,8 +31,8 @@ METHODS = set("""
 AT_ONCE = {"zip", "enumerate", "reversed", "range", "items", "keys", "values"}
 TAKERS = {"list", "tuple", "dict", "sorted", "sum", "any", "all", "enumerate", "zip", "min", "max", "len", "reversed"}
 NOT_ALLOWED = (
-    ast.GeneratorExp, ast.SetComp, ast.Set, ast.Yield, ast.YieldFrom, ast.Await, ast.Import, ast.Try, ast.With,
-    ast.Match, ast.Nonlocal, ast.NamedExpr, ast.Lambda, ast.JoinedStr, ast.Starred, ast.Delete,
+    ast.GeneratorExp, ast.SetComp, ast.Set, ast.YieldFrom, ast.Await, ast.Import, ast.With, ast.Match, ast.Nonlocal,
+    ast.NamedExpr, ast.Lambda, ast.Starred, ast.Delete, ast.Pow, ast.AnnAssign,
 )
 
 
@@ -91,6 +100,7 @@ class LanguageTest(unittest.TestCase):
             text = path.read_text(encoding="utf-8")
             words = set("".join(c if c.isalnum() or c == "_" else " " for c in text).split())
             self.assertEqual(words & BARRED, set(), path.name)
+            self.assertEqual([part for part in BARRED_PARTS if part in text], [], path.name)
             for node in ast.walk(ast.parse(text)):
                 self.assertNotIsInstance(node, (ast.Div, ast.Global, ast.AsyncFunctionDef), path.name)
                 if isinstance(node, ast.Constant):
@@ -117,13 +127,82 @@ class LanguageTest(unittest.TestCase):
             for node in ast.walk(tree):
                 self.assertNotIsInstance(node, NOT_ALLOWED, name)
 
+    def test_only_own_errors_are_caught(self):
+        own = {node.name for name, tree in trees() if name == "errors.py" for node in tree.body
+               if isinstance(node, ast.ClassDef)}
+        for name, tree in trees():
+            for node in ast.walk(tree):
+                if isinstance(node, ast.Try):
+                    self.assertEqual((node.orelse, node.finalbody), ([], []), name)
+                    for handler in node.handlers:
+                        self.assertIn(handler.type.id, own, name)
+                        self.assertIsNone(handler.name, name)
+                if isinstance(node, ast.Raise):
+                    self.assertTrue(isinstance(node.exc, ast.Call) and isinstance(node.exc.func, ast.Name), name)
+                    self.assertIn(node.exc.func.id, own | {"TypeError"}, name)
+                    self.assertTrue(node.cause is None or node.cause.value is None, name)
+
+    def test_generators_are_methods_that_the_package_does_not_call(self):
+        found = []
+        for name, tree in trees():
+            plain = [node.value for node in ast.walk(tree) if isinstance(node, ast.Expr)]
+            for function in functions_in(tree):
+                yields = [node for node in ast.walk(function) if isinstance(node, ast.Yield)]
+                self.assertTrue(all(node in plain for node in yields), name)
+                if yields:
+                    found.append(function.name)
+        self.assertEqual(found, ["history"])
+        for name, tree in trees():
+            self.assertNotIn("history", [called_name(node) for node in ast.walk(tree) if isinstance(node, ast.Call)])
+
+    def test_strings_with_braces_are_simple(self):
+        for name, tree in trees():
+            for node in ast.walk(tree):
+                if isinstance(node, ast.FormattedValue):
+                    self.assertIsInstance(node.value, ast.Name, name)
+                    self.assertEqual(node.conversion, -1, name)
+
+    def test_sets_are_only_measured(self):
+        for name, tree in trees():
+            calls = [node for node in ast.walk(tree) if isinstance(node, ast.Call)]
+            inner = [node.args[0] for node in calls if called_name(node) == "len"]
+            for node in calls:
+                if called_name(node) in ("set", "frozenset"):
+                    self.assertIn(node, inner, name)
+
+    def test_names_that_are_not_used(self):
+        for name, tree in trees():
+            used = {node.id for node in ast.walk(tree) if isinstance(node, ast.Name)}
+            used |= {node.arg for node in ast.walk(tree) if isinstance(node, (ast.arg, ast.keyword))}
+            used |= {node.attr for node in ast.walk(tree) if isinstance(node, ast.Attribute)}
+            used |= {node.name for node in ast.walk(tree) if isinstance(node, (ast.FunctionDef, ast.ClassDef))}
+            self.assertEqual(used & NO_NAMES, set(), name)
+
+    def test_what_a_loop_iterates_over_is_not_changed_in_it(self):
+        changing = {"append", "clear", "extend", "insert", "pop", "remove", "reverse", "setdefault", "update"}
+        for name, tree in trees():
+            for loop in ast.walk(tree):
+                if not isinstance(loop, ast.For):
+                    continue
+                over = {ast.dump(node).replace("Store", "Load") for node in ast.walk(loop.iter)
+                        if isinstance(node, (ast.Name, ast.Attribute))}
+                for node in [inner for part in loop.body for inner in ast.walk(part)]:
+                    target = None
+                    if isinstance(node, ast.Call) and called_name(node) in changing:
+                        target = node.func.value
+                    if isinstance(node, (ast.Subscript, ast.Attribute)) and isinstance(node.ctx, ast.Store):
+                        target = node.value
+                    if target is not None:
+                        self.assertNotIn(ast.dump(target), over, f"{name}:{node.lineno}")
+
     def test_is_stands_beside_none_only(self):
         for name, tree in trees():
             for node in ast.walk(tree):
                 if isinstance(node, ast.Compare):
                     for sign, right in zip(node.ops, node.comparators):
                         if isinstance(sign, (ast.Is, ast.IsNot)):
-                            self.assertTrue(isinstance(right, ast.Constant) and right.value in (None, True, False), name)
+                            self.assertIsInstance(right, ast.Constant, name)
+                            self.assertIn(right.value, (None, True, False), name)
 
     def test_methods_and_attributes_are_known(self):
         known = own_names() | METHODS
