@@ -105,7 +105,8 @@ def plan(table, jar, wanted, *, turn=FIRST):
         draws = {counts: possible_draws(counts) for counts in level}
         if person_after(turn, many) == person:
             draws = {counts: equal_draws(table, counts, values)[:1] for counts in level}
-            found.update({counts: made[0] for counts, made in draws.items()})
+            for counts, made in draws.items():
+                found[counts] = made[0]
         level = jars_after(table.rows(), draws)
     return (person, found)
 

@@ -521,7 +521,7 @@ class LimitTest(unittest.TestCase):
                 with self.assertRaises(LimitExceeded) as caught:
                     call()
                 self.assertEqual(caught.exception.limit, 60)
-        # Start and period of this table are 57 and 3, and those of the next one 58 and 3.
+        # Start and period of this table are 3 and 31.
         for call in self.calls(Table(cycle_rows(6))):
             call()
 
